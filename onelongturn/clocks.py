@@ -154,12 +154,12 @@ def is_piece(day, value):
 def size_of(day, piece):
     """How many clocks a piece has."""
     first, last = piece
-    return day.forward(first, last) + 1
+    return (last - first) % day.length + 1
 
 
 def is_within(day, piece, clock):
     """Whether a clock is in a piece."""
-    return day.forward(piece[0], clock) < size_of(day, piece)
+    return (clock - piece[0]) % day.length < size_of(day, piece)
 
 
 def check_fitting(one, other):

@@ -6,7 +6,7 @@ from onelongturn.words import wrong_trip_word
 
 
 class Trip:
-    """The base of runs and stays, which restate its methods, each for its own class."""
+    """The base of runs and stays; each of them restates its methods, as the interface asks for each class."""
 
     def ready(self, pause):
         """The ready moment, if the trip leaves at the moment `leaves`; no pause plays a part."""
@@ -32,10 +32,10 @@ class Trip:
         return not is_earlier(other, self)
 
     def __eq__(self, other):
-        return isinstance(other, Trip) and str(self) == str(other)
+        return isinstance(other, Trip) and words_of(self) == words_of(other)
 
     def __str__(self):
-        return f"{self.name} {self.start} {self.leaves} {self.takes}"
+        return " ".join(words_of(self))
 
     @staticmethod
     def read(text):
@@ -88,10 +88,10 @@ class Run(Trip, Paused):
         return not is_earlier(other, self)
 
     def __eq__(self, other):
-        return isinstance(other, Run) and str(self) == str(other)
+        return isinstance(other, Run) and words_of(self) == words_of(other)
 
     def __str__(self):
-        return f"run {self.name} {self.start} {self.leaves} {self.takes} {self.goal}"
+        return " ".join(words_of(self))
 
 
 class Stay(Trip):
@@ -129,10 +129,10 @@ class Stay(Trip):
         return not is_earlier(other, self)
 
     def __eq__(self, other):
-        return isinstance(other, Stay) and str(self) == str(other)
+        return isinstance(other, Stay) and words_of(self) == words_of(other)
 
     def __str__(self):
-        return f"stay {self.name} {self.start} {self.leaves} {self.takes}"
+        return " ".join(words_of(self))
 
 
 def check_trip(name, places, leaves, takes):
@@ -164,6 +164,13 @@ def retold(trip, name, leaves, takes):
     if isinstance(trip, Run):
         return Run(name, trip.start, leaves, takes, trip.goal)
     return Stay(name, trip.start, leaves, takes)
+
+
+def words_of(trip):
+    """The words of the text of a trip; they tell its class and all its attributes."""
+    if isinstance(trip, Run):
+        return ["run", trip.name, trip.start, str(trip.leaves), str(trip.takes), trip.goal]
+    return ["stay", trip.name, trip.start, str(trip.leaves), str(trip.takes)]
 
 
 def told_trip(words):

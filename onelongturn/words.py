@@ -17,21 +17,12 @@ def read_number(word, least):
     return number if least <= number <= MOST else None
 
 
-def trip_line(words):
-    """What is asked for the words of a trip's line; () if it begins with another word than a trip's."""
-    if words[0] == "run":
-        return RUN_LINE
-    if words[0] == "stay":
-        return STAY_LINE
-    return ()
-
-
 def wrong_trip_word(words, ahead="", below=MOST + 1):
     """The index of the first word that cannot stand in a trip's line, None if all can.
 
     Its name must be above the name ahead, and it must leave below the number told.
     """
-    line = trip_line(words)
+    line = RUN_LINE if words[0] == "run" else STAY_LINE
     for at, word in enumerate(words):
         if at >= len(line) or not fits(word, line[at], ahead, below):
             return at

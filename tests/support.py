@@ -4,7 +4,10 @@ import unittest
 
 from onelongturn import errors
 from onelongturn.clocks import Clocks
+from onelongturn.curves import Curve
 from onelongturn.days import Day
+from onelongturn.plans import Plan
+from onelongturn.tables import Pauses, Table
 from onelongturn.trips import Run, Stay
 
 FIELDS = {
@@ -18,7 +21,8 @@ FIELDS = {
 BILLION_DAY = 10 ** 12
 PACKAGE_OBJECTS = [
     Day(3), Clocks(Day(3)), Clocks(Day(24), (3, 5)), Run("p", "a", 6, 2, "b"), Stay("w", "a", 6, 2),
-    errors.BadDay(3), errors.TurnError(),
+    errors.BadDay(3), errors.TurnError(), Table(Day(3)), Table(Day(24), Stay("w", "a", 6, 2)), Pauses(), Pauses(a=2),
+    Curve(Day(24), [(0, 1)]), Plan(Table(Day(3)), None, {}),
 ]
 PLAIN_VALUES = [
     None, True, False, 0, 1, -1, 7, 10 ** 12 + 1, 10 ** 69, -(10 ** 69), "", "a", "abcdefgh", "abcdefghi", "A",
@@ -47,6 +51,31 @@ def name(value):
 
 def number(value):
     return integer(value) and 0 <= value <= 10 ** 12
+
+
+def balanced_trips(dice, length, many, places, longest):
+    """So many random trips, named ta, tb, .., as many of which end as start at each place."""
+    starts = [dice.choice(places) for _ in range(many)]
+    goals = dice.sample(starts, many)
+    trips = []
+    for at, (start, goal) in enumerate(zip(starts, goals)):
+        word = "t" + chr(97 + at // 26) + chr(97 + at % 26)
+        leaves, takes = dice.randrange(length), dice.randint(1, longest)
+        if start == goal and dice.random() < 0.5:
+            trips.append(Stay(word, start, leaves, takes))
+        else:
+            trips.append(Run(word, start, leaves, takes, goal))
+    return trips
+
+
+def random_plan(dice, table, pauses):
+    """Any plan of a table."""
+    follows = {}
+    for place in table.places:
+        ends = [trip.name for trip in table if trip.goal == place]
+        starts = [trip.name for trip in table if trip.start == place]
+        follows.update(zip(ends, dice.sample(starts, len(starts))))
+    return Plan(table, pauses, follows)
 
 
 class Checks(unittest.TestCase):

@@ -1,8 +1,9 @@
 """Points [2] and [3], days.py."""
 
 from onelongturn.clocks import Clocks
+from onelongturn.curves import Curve
 from onelongturn.days import Day
-from onelongturn.errors import BadDay, BadNumber
+from onelongturn.errors import BadAsk, BadDay, BadNumber
 from tests.support import ANY_VALUES, Checks, any_but, integer, moment
 
 LENGTHS = (1, 2, 3, 24, 1440, 10 ** 12 - 1, 10 ** 12)
@@ -71,12 +72,24 @@ class TestDay(Checks):
     def test_no_longer_day(self):
         for value in any_but(lambda value: integer(value) and 1 <= value <= 10 ** 12) + [0, -1, 10 ** 12 + 1]:
             self.raises(BadNumber(value), lambda: Day(1) * value)
-            if not isinstance(value, Day):
+            if not isinstance(value, (Day, Curve)):
                 self.raises(BadNumber(value), lambda: value * Day(1))
         for k in (2, 10 ** 12, 10 ** 69):
             self.raises(BadNumber(k), lambda: Day(10 ** 12) * k)
             self.raises(BadNumber(k), lambda: k * Day(10 ** 12))
             self.raises(BadNumber(k), lambda: k * Day(5 * 10 ** 11 + 1))
+
+    def test_the_left_one_tells_the_error(self):
+        day, curve, clocks = Day(24), Curve(Day(24), [(0, 1)]), Clocks(Day(24), (3, 5))
+        self.raises(BadNumber(curve), lambda: day * curve)
+        self.raises(BadAsk("curve"), lambda: curve * day)
+        self.raises(BadNumber(clocks), lambda: day * clocks)
+        self.raises(BadNumber(clocks), lambda: clocks * day)
+        self.raises(BadAsk("curve"), lambda: curve + clocks)
+        self.raises(BadNumber(curve), lambda: clocks + curve)
+        self.raises(BadNumber(curve), lambda: clocks - curve)
+        self.raises(BadNumber(day), lambda: day + clocks)
+        self.raises(BadAsk("curve"), lambda: day + curve)
 
     def test_whether_a_value_is_a_clock(self):
         for length in LENGTHS:

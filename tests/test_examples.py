@@ -29,12 +29,57 @@ TRIPS = """
 >>> Run("p", "a", 6, 0, "b")
 raises BadTrip('takes')
 """
+TABLES = """
+>>> from onelongturn.tables import Pauses, Table
+>>> table = Table(day, p, q, r, s)
+>>> [table.names, table.places, [str(trip) for trip in table.between(9, 13)], "p" in table, str(table.moved(10, "p", "s")["s"]), table.without("p", "q").names]
+[('p', 'q', 'r', 's'), ('a', 'b'), ['run q b 9 2 a', 'run r a 12 2 b'], True, 'run s b 1 2 a', ('r', 's')]
+>>> [str(Pauses(a=2) + Pauses(b=1, a=1)), Pauses(a=2) <= Pauses(a=3), Pauses()["a"], Pauses.of({"a": 0}) == Pauses()]
+['a 3 b 1', True, 0, True]
+>>> table.without("p")
+raises Unbalanced('a')
+"""
+CURVES = """
+>>> from onelongturn.curves import Curve, pausing, stands, under_way
+>>> curve = stands(table, None, "a")
+>>> [curve.steps, curve[30], str(curve.where(1)), curve.total(0, 48), (curve + curve).greatest, [piece for piece in stands(table, None, "b")]]
+[((0, 1), (6, 0), (11, 1), (12, 0), (17, 1)), 0, '11-11 17-5', 28, 2, [(0, 7, 0), (8, 8, 1), (9, 13, 0), (14, 14, 1), (15, 23, 0)]]
+>>> [stands(table, Pauses(a=2), "a").steps, pausing(table, Pauses(a=2), "a").where(1).pieces, under_way(table)[6]]
+[((0, 2), (6, 1), (12, 0), (13, 1), (19, 2)), ((11, 12), (17, 18)), 1]
+"""
+PLANS = """
+>>> from onelongturn.plans import Plan
+>>> long = Plan(table, Pauses(a=2), {"p": "q", "q": "r", "r": "s", "s": "p"})
+>>> [long.vehicles, long.turns, long.wait("q"), long.days("q"), long.meet("q", "s"), long.spare("a"), long.is_one]
+[2, (('p', 'q', 'r', 's'),), 23, 2, True, 0, True]
+>>> both = long.swapped("q", "s")
+>>> [both.vehicles, both.turns, both["q"], both.curve("a") == long.curve("a")]
+[2, (('p', 'q'), ('r', 's')), 'p', True]
+>>> walk = long.walk("q")
+>>> [next(walk), next(walk), next(walk)]
+[('q', 9, 13), ('r', 36, 38), ('s', 39, 43)]
+>>> Plan(table, None, {"p": "q", "q": "s", "r": "p", "s": "r"})
+raises BadPlan('q')
+"""
+READER = """
+>>> from onelongturn.reader import read_pauses, read_plan, read_table
+>>> read_table("day 24\\nrun p a 24 2 b")
+raises BadText(1, 3)
+>>> read_table("day 24\\nrun p a 6 2 b")
+raises Unbalanced('a')
+>>> read_pauses("pauses a 0")
+raises BadText(0, 2)
+>>> read_table('day 24\\nrun p a 6 2 b\\nrun q b 9 2 a\\nrun r a 12 2 b\\nrun s b 15 2 a') == table
+True
+>>> read_pauses('pauses a 2 b 3') == Pauses(b=3, a=2)
+True
+"""
 
 
 class TestExamples(Checks):
     def test_examples_in_their_order(self):
         names = {}
-        for text in (DAYS, CLOCKS, TRIPS):
+        for text in (DAYS, CLOCKS, TRIPS, TABLES, CURVES, PLANS, READER):
             self.run_examples(text, names)
 
     def test_the_note_on_touching_pieces(self):

@@ -42,6 +42,14 @@ INTERFACE = {
     "trips": {"Trip": "ready __call__ __add__ __sub__ __lt__ __le__ __eq__ __str__ read", "Paused": "",
               "Run": "__init__ ready __call__ __add__ __sub__ __lt__ __le__ __eq__ __str__",
               "Stay": "__init__ ready __call__ __add__ __sub__ __lt__ __le__ __eq__ __str__"},
+    "tables": {"Table": "__init__ of __getitem__ between __contains__ __len__ __iter__ __add__ with_trips without moved"
+                        " scaled __eq__",
+               "Pauses": "__init__ of __getitem__ put __iter__ __len__ __add__ __or__ __and__ __le__ __lt__ __ge__"
+                         " __gt__ __eq__ __str__ read"},
+    "curves": {"Curve": "__init__ __getitem__ least greatest __iter__ __add__ __radd__ __sub__ __neg__ __mul__ __rmul__"
+                        " __eq__ moved where total"},
+    "plans": {"Plan": "__init__ follows __getitem__ wait days vehicles turns __len__ __iter__ is_one curve spare meet"
+                      " swapped walk __eq__"},
 }
 
 

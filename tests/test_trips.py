@@ -1,6 +1,8 @@
 """Points [2], [4] and [5], trips.py."""
 
+from onelongturn.clocks import Clocks
 from onelongturn.errors import BadNumber, BadText, BadTrip
+from onelongturn.tables import Pauses
 from onelongturn.trips import Paused, Run, Stay, Trip
 from tests.support import ANY_VALUES, Checks, any_but, integer, name, number
 
@@ -131,6 +133,22 @@ class TestComparing(Checks):
             self.same(Run("p", "a", 6, 2, "b") == other, False)
         self.same([Run("p", "a", 6, 2, "a") == Stay("p", "a", 6, 2), Stay("p", "a", 6, 2) == Stay("p", "a", 6, 2)],
                   [False, True])
+
+    def test_the_methods_of_the_base_itself(self):
+        for one in self.trips:
+            self.same([Trip.ready(one, 7), Trip.__str__(one)], [one.leaves + one.takes, str(one)])
+            self.same([Trip.__add__(one, 3) == one + 3, Trip.__sub__(one + 3, 3) == one], [True, True])
+            for other in self.trips:
+                told = [Trip.__lt__(one, other), Trip.__le__(one, other), Trip.__eq__(one, other)]
+                self.same(told, [one < other, one <= other, one == other])
+
+    def test_no_order_with_other_values(self):
+        for value in any_but(lambda value: isinstance(value, (Trip, Clocks, Pauses))):
+            for trip in self.trips[:3]:
+                with self.assertRaises(TypeError):
+                    trip < value
+                with self.assertRaises(TypeError):
+                    trip <= value
 
     def test_equal_to_nothing_else(self):
         for value in any_but(lambda value: isinstance(value, Trip)):

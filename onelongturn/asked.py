@@ -1,0 +1,30 @@
+"""What many functions ask of their arguments `table`, `pauses` and `place`."""
+
+from onelongturn.errors import BadAsk, NoPlace
+from onelongturn.tables import Pauses, Table
+
+
+def check_table(table):
+    """Raises BadAsk("table") for any value that is no Table."""
+    if not isinstance(table, Table):
+        raise BadAsk("table")
+
+
+def asked_pauses(pauses):
+    """The Pauses, also for None; raises BadAsk("pauses") for any other value."""
+    if pauses is None:
+        return Pauses()
+    if not isinstance(pauses, Pauses):
+        raise BadAsk("pauses")
+    return pauses
+
+
+def check_place(table, place):
+    """Raises NoPlace(place) for any value that is no place of the table."""
+    if place not in table.places:
+        raise NoPlace(place)
+
+
+def ready_moment(trip, pauses):
+    """When the vehicle of a trip is ready, if it leaves on day 0."""
+    return trip.ready(pauses[trip.goal])
