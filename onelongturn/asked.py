@@ -1,4 +1,4 @@
-"""What many functions ask of their arguments `table`, `pauses` and `place`."""
+"""What many functions ask of their arguments `table`, `pauses`, `place` and of dicts from places."""
 
 from onelongturn.errors import BadAsk, NoPlace
 from onelongturn.tables import Pauses, Table
@@ -28,3 +28,10 @@ def check_place(table, place):
 def ready_moment(trip, pauses):
     """When the vehicle of a trip is ready, if it leaves on day 0."""
     return trip.ready(pauses[trip.goal])
+
+
+def tells_places(table, value):
+    """Whether any value is a dict from all places of the table, and nothing else."""
+    if not isinstance(value, dict) or len(value) != len(table.places):
+        return False
+    return all([place in value for place in table.places])

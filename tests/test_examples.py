@@ -74,12 +74,34 @@ True
 >>> read_pauses('pauses a 2 b 3') == Pauses(b=3, a=2)
 True
 """
+FEWEST = """
+>>> from onelongturn.fewest import Fewest, days_by, fewest, room, stock, under
+>>> [fewest(table) == Fewest(1, {"a": 7, "b": 0}), fewest(table, Pauses(a=2)).number, fewest(table, Pauses(a=2)).cuts, stock(table, Pauses(a=2), "a"), under(table), room(table, Pauses(a=2), "a")]
+[True, 2, {'a': 13, 'b': 0}, 2, 0, 2]
+>>> [days_by(table, None, {"a": 7, "b": 0}), days_by(table, None, {"a": 0, "b": 0}), fewest(table.moved(5)).number]
+[1, 0, 1]
+"""
+RULES = """
+>>> from onelongturn.rules import FirstIn, LastIn, Named, Rule, plan_by
+>>> [plan_by(table, Pauses(a=2), FirstIn()).follows["q"], plan_by(table, Pauses(a=2), LastIn()) == long, Named("s")(("q", "s"))]
+['p', True, 1]
+"""
+COUNTS = """
+>>> from onelongturn.counts import all_plans, number_of, plan_at, plans_count
+>>> [plans_count(table, Pauses(a=2)), plan_at(table, Pauses(a=2), 1) == long, number_of(both), [len(plan) for plan in all_plans(table, Pauses(a=2))]]
+[2, True, 0, [2, 1]]
+"""
+SWAPS = """
+>>> from onelongturn.swaps import Merged, fewest_swaps, merged, swaps_to
+>>> [merged(both).swaps in ((("q", "s"),), (("s", "q"),)), merged(both).plan == long, fewest_swaps(both, long), fewest_swaps(long, long), len(swaps_to(long, both))]
+[True, True, 1, 0, 1]
+"""
 
 
 class TestExamples(Checks):
     def test_examples_in_their_order(self):
         names = {}
-        for text in (DAYS, CLOCKS, TRIPS, TABLES, CURVES, PLANS, READER):
+        for text in (DAYS, CLOCKS, TRIPS, TABLES, CURVES, PLANS, FEWEST, RULES, COUNTS, SWAPS, READER):
             self.run_examples(text, names)
 
     def test_the_note_on_touching_pieces(self):

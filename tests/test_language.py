@@ -12,7 +12,7 @@ TREES = {stem: ast.parse(text) for stem, text in FILES.items()}
 NODES = set("""
 Module Expr Import ImportFrom alias FunctionDef arguments arg ClassDef Assign If While For Return Break Continue Pass
 Raise Name Constant Attribute Call keyword Subscript Slice Tuple List Dict ListComp DictComp comprehension BinOp UnaryOp
-BoolOp Compare IfExp JoinedStr FormattedValue Starred Yield Add Sub Mult FloorDiv Mod Pow BitOr BitAnd BitXor USub Invert
+BoolOp Compare IfExp JoinedStr FormattedValue Starred Yield Lambda Add Sub Mult FloorDiv Mod Pow BitOr BitAnd BitXor USub Invert
 Not And Or Eq NotEq Lt LtE Gt GtE In NotIn Is IsNot Load Store
 """.split())
 BUILTINS = set("""
@@ -50,6 +50,21 @@ INTERFACE = {
                         " __eq__ moved where total"},
     "plans": {"Plan": "__init__ follows __getitem__ wait days vehicles turns __len__ __iter__ is_one curve spare meet"
                       " swapped walk __eq__"},
+    "fewest": {"Fewest": "__init__ __eq__"},
+    "rules": {"Rule": "", "FirstIn": "__call__ __eq__", "LastIn": "__call__ __eq__",
+              "Named": "__init__ __call__ __eq__"},
+    "swaps": {"Merged": "__init__ __eq__"},
+}
+
+FUNCTIONS = {
+    "curves": ("stands(table, pauses, place)", "pausing(table, pauses, place)", "under_way(table)"),
+    "reader": ("read_table(text)", "read_pauses(text)", "read_plan(text)"),
+    "fewest": ("fewest(table, pauses=None)", "stock(table, pauses, place)", "under(table)",
+               "room(table, pauses, place)", "days_by(table, pauses, cuts)"),
+    "rules": ("plan_by(table, pauses, rule)",),
+    "counts": ("plans_count(table, pauses)", "plan_at(table, pauses, number)", "number_of(plan)",
+               "all_plans(table, pauses)"),
+    "swaps": ("merged(plan)", "fewest_swaps(one, other)", "swaps_to(one, other)"),
 }
 
 
@@ -60,6 +75,10 @@ def walked():
 
 def functions_of(tree):
     return [node for node in ast.walk(tree) if isinstance(node, ast.FunctionDef)]
+
+
+def lambdas_of(tree):
+    return [node for node in ast.walk(tree) if isinstance(node, ast.Lambda)]
 
 
 def docstrings():
@@ -166,15 +185,15 @@ class TestNames(unittest.TestCase):
         taken = set(dir(builtins)) | NOT_NAMES
         for stem, tree in TREES.items():
             names = top_names(tree)
-            for function in functions_of(tree):
+            for function in [*functions_of(tree), *lambdas_of(tree)]:
                 local = local_names(function)
-                self.assertFalse((taken | set(names)) & set(local), (stem, function.name))
+                self.assertFalse((taken | set(names)) & set(local), (stem, function.lineno))
             self.assertFalse(taken & set(names), stem)
 
     def test_names_that_are_read(self):
         for stem, tree in TREES.items():
             known = set(top_names(tree)) | BUILTINS
-            for function in functions_of(tree):
+            for function in [*functions_of(tree), *lambdas_of(tree)]:
                 known |= set(local_names(function))
             for node in ast.walk(tree):
                 if isinstance(node, ast.Name) and isinstance(node.ctx, ast.Load):
@@ -205,6 +224,13 @@ class TestNames(unittest.TestCase):
                 node = next(part for part in TREES[stem].body if isinstance(part, ast.ClassDef) and part.name == word)
                 own = {part.name for part in node.body if isinstance(part, ast.FunctionDef)}
                 self.assertFalse(set(methods.split()) - own, word)
+
+    def test_functions_of_the_interface(self):
+        for stem, told in FUNCTIONS.items():
+            own = {node.name: node for node in TREES[stem].body if isinstance(node, ast.FunctionDef)}
+            for text in told:
+                word = text.split("(")[0]
+                self.assertEqual(f"{word}({ast.unparse(own[word].args)})", text)
 
     def test_parameters_of_double_underscore_methods(self):
         for _, node in walked():
