@@ -1,6 +1,7 @@
 """What many functions ask of their arguments `table`, `pauses`, `place` and of dicts from places."""
 
 from onelongturn.errors import BadAsk, NoPlace
+from onelongturn.kinds import is_number
 from onelongturn.tables import Pauses, Table
 
 
@@ -35,3 +36,17 @@ def tells_places(table, value):
     if not isinstance(value, dict) or len(value) != len(table.places):
         return False
     return all([place in value for place in table.places])
+
+
+def check_stocks(table, stocks):
+    """Raises BadAsk("stocks") for any value that is no dict from all places of the table to numbers."""
+    if not tells_places(table, stocks) or not all([is_number(stocks[place]) for place in table.places]):
+        raise BadAsk("stocks")
+
+
+def check_tables(one, other):
+    """Raises BadAsk("one"), BadAsk("other") for any values that are no Table."""
+    if not isinstance(one, Table):
+        raise BadAsk("one")
+    if not isinstance(other, Table):
+        raise BadAsk("other")

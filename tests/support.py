@@ -8,11 +8,14 @@ from onelongturn.clocks import Clocks
 from onelongturn.curves import Curve
 from onelongturn.days import Day
 from onelongturn.fewest import Fewest
+from onelongturn.joined import Saved
 from onelongturn.plans import Plan
 from onelongturn.rules import FirstIn, LastIn, Named
+from onelongturn.stairs import Above, Endless, Stair
 from onelongturn.swaps import Merged
 from onelongturn.tables import Pauses, Table
 from onelongturn.trips import Run, Stay
+from onelongturn.turns import Apart, OneTurn
 
 FIELDS = {
     "BadDay": ("value",), "BadName": ("value",), "BadNumber": ("value",), "BadClocks": ("at",),
@@ -27,7 +30,8 @@ PACKAGE_OBJECTS = [
     Day(3), Clocks(Day(3)), Clocks(Day(24), (3, 5)), Run("p", "a", 6, 2, "b"), Stay("w", "a", 6, 2),
     errors.BadDay(3), errors.TurnError(), Table(Day(3)), Table(Day(24), Stay("w", "a", 6, 2)), Pauses(), Pauses(a=2),
     Curve(Day(24), [(0, 1)]), Plan(Table(Day(3)), None, {}), Fewest(1, {}), FirstIn(), LastIn(), Named("a"),
-    Merged((), None),
+    Merged((), None), Stair(24, 1, (2, 20), 2), Above(0, Pauses()), Endless("a"), Saved(0, {}), OneTurn(1, (), None),
+    Apart(()),
 ]
 PLAIN_VALUES = [
     None, True, False, 0, 1, -1, 7, 10 ** 12 + 1, 10 ** 69, -(10 ** 69), "", "a", "abcdefgh", "abcdefghi", "A",
@@ -58,13 +62,13 @@ def number(value):
     return integer(value) and 0 <= value <= 10 ** 12
 
 
-def balanced_trips(dice, length, many, places, longest):
-    """So many random trips, named ta, tb, .., as many of which end as start at each place."""
+def balanced_trips(dice, length, many, places, longest, sign="t"):
+    """So many random trips, named taa, tab, .., as many of which end as start at each place."""
     starts = [dice.choice(places) for _ in range(many)]
     goals = dice.sample(starts, many)
     trips = []
     for at, (start, goal) in enumerate(zip(starts, goals)):
-        word = "t" + chr(97 + at // 26) + chr(97 + at % 26)
+        word = sign + chr(97 + at // 26) + chr(97 + at % 26)
         leaves, takes = dice.randrange(length), dice.randint(1, longest)
         if start == goal and dice.random() < 0.5:
             trips.append(Stay(word, start, leaves, takes))

@@ -96,12 +96,43 @@ SWAPS = """
 >>> [merged(both).swaps in ((("q", "s"),), (("s", "q"),)), merged(both).plan == long, fewest_swaps(both, long), fewest_swaps(long, long), len(swaps_to(long, both))]
 [True, True, 1, 0, 1]
 """
+TURNS = """
+>>> from onelongturn.turns import Apart, OneTurn, lots, one_turn, stretches
+>>> [stretches(table, Pauses(a=2), "a"), stretches(table, None, "a"), lots(table, None), one_turn(table, Pauses(a=2)) == OneTurn(2, (), long)]
+[((13, 19, 6, 12),), ((11, 12), (17, 6)), (('p', 'q', 'r', 's'),), True]
+>>> loops = Table(day, Run("u", "a", 6, 24, "a"), Run("v", "a", 18, 24, "a"))
+>>> found = one_turn(loops)
+>>> [fewest(loops).number, lots(loops, None), lots(loops, None, ["a"]), found.number, found.taken, found.plan.turns, found.plan.spare("a")]
+[2, (('u',), ('v',)), (('u', 'v'),), 3, ('a',), (('u', 'v'),), 1]
+>>> [(fewest(loops, Pauses(a=m)).number, one_turn(loops, Pauses(a=m)).number) for m in (0, 1, 12, 13, 24)]
+[(2, 3), (3, 3), (3, 3), (4, 5), (4, 5)]
+>>> one_turn(loops + Table(day, Run("x", "c", 1, 2, "c"))) == Apart((("u", "v"), ("x",)))
+True
+"""
+STAIRS = """
+>>> from onelongturn.stairs import Above, Endless, Stair, above, alike, lateness, stair
+>>> first = stair(table, "a")
+>>> [first == Stair(24, 1, (2, 20), 2), first(0), first(2), first(24), first(26), first.longest_pause(2), first.longest_pause(0)]
+[True, 1, 2, 3, 4, 19, -1]
+>>> [stair(table, "b").rises, first - stair(table, "b"), stair(table, "b") - first, stair(table, "b") <= first]
+[(2, 8), 1, 0, True]
+>>> [lateness(table, None, {"a": 2, "b": 1}), lateness(table, Pauses(a=2), {"a": 2, "b": 0}), lateness(table, None, {"a": 0, "b": 5})]
+[7, 1, -1]
+>>> [above(table, table.moved(5)).number, above(table, loops) == Endless("b"), alike(table, table.moved(5))]
+[0, True, True]
+"""
+SHIFTS = """
+>>> from onelongturn.shifts import nearest, shifts
+>>> [shifts(table, None, ["p", "q", "r", "s"]).steps, shifts(table, None, ["q"])[2], shifts(table, None, ["q"])[4], nearest(table, None, ["q"], 1), nearest(table, Pauses(a=2), ["r"], 1)]
+[((0, 1),), 2, 2, 0, 1]
+"""
+IN_ORDER = (DAYS, CLOCKS, TRIPS, TABLES, CURVES, FEWEST, PLANS, RULES, COUNTS, SWAPS, TURNS, STAIRS, SHIFTS, READER)
 
 
 class TestExamples(Checks):
     def test_examples_in_their_order(self):
         names = {}
-        for text in (DAYS, CLOCKS, TRIPS, TABLES, CURVES, PLANS, FEWEST, RULES, COUNTS, SWAPS, READER):
+        for text in IN_ORDER:
             self.run_examples(text, names)
 
     def test_the_note_on_touching_pieces(self):

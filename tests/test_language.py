@@ -54,6 +54,10 @@ INTERFACE = {
     "rules": {"Rule": "", "FirstIn": "__call__ __eq__", "LastIn": "__call__ __eq__",
               "Named": "__init__ __call__ __eq__"},
     "swaps": {"Merged": "__init__ __eq__"},
+    "turns": {"Turning": "__bool__", "OneTurn": "__init__ __bool__ __eq__", "Apart": "__init__ __bool__ __eq__"},
+    "stairs": {"Stair": "__init__ __call__ longest_pause __sub__ __le__ __eq__", "Above": "__init__ __eq__",
+               "Endless": "__init__ __eq__"},
+    "joined": {"Saved": "__init__ __eq__"},
 }
 
 FUNCTIONS = {
@@ -65,6 +69,10 @@ FUNCTIONS = {
     "counts": ("plans_count(table, pauses)", "plan_at(table, pauses, number)", "number_of(plan)",
                "all_plans(table, pauses)"),
     "swaps": ("merged(plan)", "fewest_swaps(one, other)", "swaps_to(one, other)"),
+    "turns": ("stretches(table, pauses, place)", "lots(table, pauses, taken=())", "one_turn(table, pauses=None)"),
+    "stairs": ("stair(table, place)", "above(one, other)", "alike(one, other)", "lateness(table, pauses, stocks)"),
+    "shifts": ("shifts(table, pauses, names)", "nearest(table, pauses, names, number)"),
+    "joined": ("saved(one, other, pauses=None)", "saved_ever(one, other)"),
 }
 
 
