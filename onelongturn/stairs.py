@@ -161,8 +161,8 @@ def widest(one, other):
     most = value_at(one, 0) - value_at(other, 0)
     pause = 0
     for m in one.rises:
-        # The difference only grows where the first stair rises, and a length later it is not greater.
-        if m < one.length and value_at(one, m) - value_at(other, m) > most:
+        # The difference only grows where the first stair rises, and at a whole length it is no greater than at 0.
+        if value_at(one, m) - value_at(other, m) > most:
             most = value_at(one, m) - value_at(other, m)
             pause = m
     return (most, pause)

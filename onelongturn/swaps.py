@@ -36,19 +36,16 @@ def fewest_swaps(one, other):
 def swaps_to(one, other):
     """The tuple of the fewest swaps by which one plan becomes another one."""
     check_plans(one, other)
+    names = one.table.names
     now = one.follows
-    ahead = {following: name for name, following in now.items()}
     swaps = []
-    for name in other.table.names:
+    for name in names:
         wanted = other[name]
         if now[name] != wanted:
             # The trips that must exchange make up rings; no swap cuts more than one ring in two, and this one does.
-            giving = ahead[wanted]
+            giving = [taking for taking in names if now[taking] == wanted][0]
             swaps.append((name, giving))
-            now[giving] = now[name]
-            ahead[now[name]] = giving
-            now[name] = wanted
-            ahead[wanted] = name
+            now[name], now[giving] = wanted, now[name]
     return tuple(swaps)
 
 

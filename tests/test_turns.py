@@ -273,6 +273,7 @@ class TestPapers(Checks):
         self.check_paper(Apart, "parts")
 
     def test_truth_and_base(self):
+        self.assertIs(bool(Turning()), False)
         for value in ANY_VALUES:
             one, parts = OneTurn(value, value, value), Apart(value)
             self.same([bool(one), bool(parts)], [True, False])
