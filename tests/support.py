@@ -1,5 +1,6 @@
 """What the tests share: checks of values with their kinds, of errors with their fields, and of examples."""
 
+import random
 import unittest
 from itertools import permutations, product
 
@@ -108,6 +109,17 @@ def every_plan(table, pauses):
             follows.update(zip(names, order))
         plans.append(Plan(table, pauses, follows))
     return plans
+
+
+def plans_and_spares(seed):
+    """Drawn plans of small tables, each with the places at which it has a spare vehicle; all sorts of them."""
+    dice, told = random.Random(seed), set()
+    for _ in range(300):
+        plan = random_plan(dice, *small_case(dice, 8))
+        spare = tuple(place for place in plan.table.places if plan.spare(place))
+        told.add(spare)
+        yield plan, spare
+    assert {(), ("a",), ("b",), ("a", "b"), ("b", "c")} <= told
 
 
 def ready_behind(trip, pauses):

@@ -13,7 +13,7 @@ from onelongturn.rules import FirstIn, LastIn, plan_by
 from onelongturn.tables import Pauses, Table
 from onelongturn.trips import Run, Stay
 from tests.support import (
-    BILLION_DAY, Checks, any_but, balanced_trips, every_plan, integer, lived_choices, random_plan, small_case,
+    BILLION_DAY, Checks, any_but, balanced_trips, every_plan, integer, lived_choices, plans_and_spares, small_case,
 )
 
 DAY = Day(24)
@@ -146,17 +146,11 @@ class TestErrors(Checks):
             self.raises(BadAsk("plan"), number_of, plan=value)
 
     def test_spare(self):
-        dice, told = random.Random(84), set()
-        for _ in range(300):
-            table, pauses = small_case(dice, 8)
-            plan = random_plan(dice, table, pauses)
-            spare = [place for place in table.places if plan.spare(place)]
-            told.add(tuple(spare))
+        for plan, spare in plans_and_spares(84):
             if spare:
                 self.raises(Spare(spare[0]), number_of, plan)
             else:
                 self.same(number_of(plan), told_number(plan))
-        self.assertTrue({(), ("a",), ("b",), ("a", "b"), ("b", "c")} <= told)
 
     def test_none_is_no_pauses(self):
         table = TABLE + Table(DAY, Stay("w", "a", 3, 1))

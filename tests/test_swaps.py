@@ -11,7 +11,7 @@ from onelongturn.swaps import Merged, fewest_swaps, merged, swaps_to
 from onelongturn.tables import Pauses, Table
 from onelongturn.trips import Run, Stay
 from tests.support import (
-    BILLION_DAY, Checks, any_but, balanced_trips, every_plan, lived_lots, random_plan, small_case,
+    BILLION_DAY, Checks, any_but, balanced_trips, every_plan, lived_lots, plans_and_spares, random_plan, small_case,
 )
 
 DAY = Day(24)
@@ -103,17 +103,11 @@ class TestMerged(Checks):
         self.same(merged(plan=plan).plan.turns, (("x", "y"),))
 
     def test_spare(self):
-        dice, told = random.Random(93), set()
-        for _ in range(300):
-            table, pauses = small_case(dice, 8)
-            plan = random_plan(dice, table, pauses)
-            spare = [place for place in table.places if plan.spare(place)]
-            told.add(tuple(spare))
+        for plan, spare in plans_and_spares(93):
             if spare:
                 self.raises(Spare(spare[0]), merged, plan)
             else:
-                self.check_merged(plan, len(lived_lots(table, pauses)))
-        self.assertTrue({(), ("a",), ("b",), ("a", "b"), ("b", "c")} <= told)
+                self.check_merged(plan, len(lived_lots(plan.table, plan.pauses)))
 
     def test_no_plan(self):
         for value in any_but(lambda value: isinstance(value, Plan)):
