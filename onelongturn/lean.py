@@ -19,7 +19,7 @@ def queue_events(table, pauses, place):
     begin = begin_of(stands(table, pauses, place))
     ready = {}
     leaving = {}
-    for trip in table:
+    for trip in list(table):
         if trip.goal == place:
             ready.setdefault((ready_moment(trip, pauses) - begin) % length, []).append(trip.name)
         if trip.start == place:

@@ -75,8 +75,8 @@ def stair(table, place):
     coming = [(run.leaves + run.takes) % length for run in runs]
     lacks = lacks_without_pause(table, place)
     risers = {}
-    for clock in lacks:
-        for arrival in coming:
+    for clock in list(lacks):
+        for arrival in list(coming):
             # From this pause on the run comes in too late for whoever leaves at the clock on the same day.
             risers.setdefault((clock - arrival) % length + 1, []).append(clock)
     base = most_of(lacks)

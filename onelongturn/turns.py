@@ -114,7 +114,7 @@ def parts_of(names, groups):
             if heads[name] in linked:
                 heads[name] = linked[0]
     parts = {}
-    for name in names:
+    for name in list(names):
         parts.setdefault(heads[name], []).append(name)
     return tuple([tuple(part) for part in parts.values()])
 
@@ -123,7 +123,7 @@ def least_taken(table, parts):
     """The fewest places by which all parts are one if they are taken, of several such tuples the least one."""
     firsts = [part[0] for part in parts]
     touching = {}
-    for part in parts:
+    for part in list(parts):
         for place in sorted(set([table[name].goal for name in part])):
             touching.setdefault(place, []).append(part[0])
     many = 0

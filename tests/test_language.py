@@ -283,6 +283,13 @@ class TestExpressions(unittest.TestCase):
             if is_call(node, "set"):
                 self.assertTrue(is_call(parents[id(node)], "sorted", "len"), (stem, node.lineno))
 
+    def test_lists_that_grow_in_a_loop_are_plainly_not_what_is_walked(self):
+        for stem, node in walked():
+            if isinstance(node, ast.For) and isinstance(node.iter, (ast.Name, ast.Attribute)):
+                for part in ast.walk(node):
+                    grows = isinstance(part, ast.Call) and isinstance(part.func, ast.Attribute) and part.func.attr == "append"
+                    self.assertFalse(grows and isinstance(part.func.value, ast.Call), (stem, part.lineno if grows else 0))
+
     def test_raised_on_the_spot(self):
         for stem, node in walked():
             if isinstance(node, ast.Raise):
