@@ -3,7 +3,7 @@
 from onelongturn.asked import asked_pauses, check_table
 from onelongturn.errors import BadNumber
 from onelongturn.kinds import is_int
-from onelongturn.lean import check_lean, picked_plan, picked_rows
+from onelongturn.lean import check_lean, picked_plan, picked_rows, queues_of
 
 
 def plans_count(table, pauses):
@@ -27,7 +27,8 @@ def number_of(plan):
     check_lean(plan)
     ahead = {following: name for name, following in plan.follows.items()}
     number = 0
-    rows = picked_rows(plan.table, plan.pauses, lambda waiting, leaving: waiting.index(ahead[leaving]))
+    queues = queues_of(plan.table, plan.pauses)
+    rows = picked_rows(queues, lambda waiting, leaving: waiting.index(ahead[leaving]))
     for name, taken, choice, size in rows:
         number = number * size + choice
     return number
@@ -45,7 +46,7 @@ def all_plans(table, pauses):
 def queue_sizes(table, pauses):
     """The pairs of a trip that leaves and how many stand then, in the order of the choices."""
     # Whoever is chosen, as many stand behind a choice: so any choices tell the sizes.
-    rows = picked_rows(table, pauses, lambda waiting, leaving: 0)
+    rows = picked_rows(queues_of(table, pauses), lambda waiting, leaving: 0)
     return [(name, size) for name, taken, choice, size in rows]
 
 

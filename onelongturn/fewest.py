@@ -21,9 +21,8 @@ def fewest(table, pauses=None):
     """The fewest vehicles, with the least cuts ahead of which nobody stands."""
     check_table(table)
     told = asked_pauses(pauses)
-    at_places = sum([stock(table, told, place) for place in table.places])
-    cuts = {place: begin_of(stands(table, told, place)) for place in table.places}
-    return Fewest(under(table) + at_places, cuts)
+    cuts = {place: begin_of(table, told, place) for place in table.places}
+    return Fewest(days_between(table, told, cuts), cuts)
 
 
 def stock(table, pauses, place):
@@ -48,6 +47,11 @@ def days_by(table, pauses, cuts):
     told = asked_pauses(pauses)
     if not tells_places(table, cuts) or not all([cuts[place] in table.day for place in table.places]):
         raise BadAsk("cuts")
+    return days_between(table, told, cuts)
+
+
+def days_between(table, pauses, cuts):
+    """The days of all trips together by right cuts."""
     length = table.day.length
-    ends = sum([(ready_moment(trip, told) - cuts[trip.goal]) // length for trip in table])
+    ends = sum([(ready_moment(trip, pauses) - cuts[trip.goal]) // length for trip in table])
     return ends - sum([(trip.leaves - cuts[trip.start]) // length for trip in table])

@@ -1,42 +1,67 @@
 """Plans without spare vehicles: the queues at the places, each lived from the begin of its place on."""
 
-from onelongturn.asked import ready_moment
-from onelongturn.curves import stands
 from onelongturn.errors import BadAsk, Spare
 from onelongturn.plans import Plan
 
 
-def begin_of(curve):
-    """The least clock such that nobody stands, by this least curve, in the minute ahead of it."""
-    if curve[-1] == 0:
-        return 0
-    return [first + 1 for first, _, height in curve if height == 0][0]
-
-
-def queue_events(table, pauses, place):
-    """The list of (clock, names that are ready, names that leave) at a place, from its begin on, names ascending."""
+def day_events(table, pauses, place):
+    """The list of (clock, names that are ready, names that leave) at a place, clocks and names ascending."""
     length = table.day.length
-    begin = begin_of(stands(table, pauses, place))
+    pause = pauses[place]
     ready = {}
     leaving = {}
     for trip in list(table):
         if trip.goal == place:
-            ready.setdefault((ready_moment(trip, pauses) - begin) % length, []).append(trip.name)
+            ready.setdefault(trip.ready(pause) % length, []).append(trip.name)
         if trip.start == place:
-            leaving.setdefault((trip.leaves - begin) % length, []).append(trip.name)
-    behind = sorted(set(list(ready) + list(leaving)))
-    return [((begin + step) % length, ready.get(step, []), leaving.get(step, [])) for step in behind]
+            leaving.setdefault(trip.leaves, []).append(trip.name)
+    clocks = sorted(set(list(ready) + list(leaving)))
+    return [(clock, ready.get(clock, []), leaving.get(clock, [])) for clock in clocks]
 
 
-def picked_rows(table, pauses, pick):
+def lived_events(events):
+    """The begin of a place by its events, and the list of these from the begin on, each with how many stand then."""
+    height = 0
+    heights = []
+    for clock, ready, leaving in events:
+        height = height + len(ready) - len(leaving)
+        heights.append(height)
+    least = min([int(number) for number in heights])
+    rows = [(event[0], event[1], event[2], number - least) for event, number in zip(events, heights)]
+    if least == 0:
+        # As many are ready as leave, so behind the last event of the day nobody stands then.
+        return (0, rows)
+    behind = heights.index(least) + 1
+    return (rows[behind - 1][0] + 1, rows[behind:] + rows[:behind])
+
+
+def begin_of(table, pauses, place):
+    """The least clock such that nobody stands, by the least curve, in the minute ahead of it."""
+    return lived_events(day_events(table, pauses, place))[0]
+
+
+def queue_events(table, pauses, place):
+    """The list of (clock, names that are ready, names that leave, how many stand then) at a place, from its begin on.
+
+    Names ascend.
+    """
+    return lived_events(day_events(table, pauses, place))[1]
+
+
+def queues_of(table, pauses):
+    """The events of each place, by the places."""
+    return [queue_events(table, pauses, place) for place in table.places]
+
+
+def picked_rows(queues, pick):
     """The choices of a plan, in their order: tuples (name that leaves, name that it takes, choice, how many stood).
 
     pick tells the choice by the tuple of the names that stand and the name that leaves.
     """
     rows = []
-    for place in table.places:
+    for events in queues:
         waiting = []
-        for _, ready, leaving in queue_events(table, pauses, place):
+        for clock, ready, leaving, stand in events:
             waiting = waiting + ready
             for name in leaving:
                 choice = pick(tuple(waiting), name)
@@ -45,10 +70,14 @@ def picked_rows(table, pauses, pick):
     return rows
 
 
+def picked_follows(queues, pick):
+    """The next trips of the plan in which each trip that leaves takes the one that pick tells, as for picked_rows."""
+    return {taken: name for name, taken, choice, size in picked_rows(queues, pick)}
+
+
 def picked_plan(table, pauses, pick):
     """The plan in which each trip that leaves takes the one that pick tells, as for picked_rows."""
-    rows = picked_rows(table, pauses, pick)
-    return Plan(table, pauses, {taken: name for name, taken, choice, size in rows})
+    return Plan(table, pauses, picked_follows(queues_of(table, pauses), pick))
 
 
 def check_lean(plan):

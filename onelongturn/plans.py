@@ -15,10 +15,10 @@ class Plan:
         self.table = table
         self.pauses = told
         self._follows = {name: follows[name] for name in table.names}
-        self._waits = {name: wait_behind(table, told, name, follows[name]) for name in table.names}
+        self._ready = ready_moments(table, told)
+        self._waits = waits_behind(table, self._ready, self._follows)
         self._turns = turns_of(table.names, self._follows)
-        minutes = {name: busy_minutes(table, told, name) + self._waits[name] for name in table.names}
-        self._days = days_of(table.day, self._turns, minutes)
+        self._days = days_of(table, self._turns, self._ready, self._waits)
 
     @property
     def follows(self):
@@ -69,8 +69,8 @@ class Plan:
     def curve(self, place):
         """How many vehicles stand at a place in the minute of each clock."""
         check_place(self.table, place)
-        ending = [trip for trip in self.table if trip.goal == place]
-        return covering(self.table.day, [(ready_moment(trip, self.pauses), self._waits[trip.name]) for trip in ending])
+        ending = [trip.name for trip in self.table if trip.goal == place]
+        return covering(self.table.day, [(self._ready[name], self._waits[name]) for name in ending])
 
     def spare(self, place):
         """How many vehicles are spare at a place."""
@@ -79,10 +79,7 @@ class Plan:
     def meet(self, one, other):
         """Whether two trips meet: whether some moment is in the waits behind both."""
         self.check_two(one, other)
-        first = ready_moment(self.table[one], self.pauses)
-        second = ready_moment(self.table[other], self.pauses)
-        day = self.table.day
-        return day.forward(first, second) <= self._waits[one] or day.forward(second, first) <= self._waits[other]
+        return waits_meet(self.table.day.length, self._ready, self._waits, one, other)
 
     def swapped(self, one, other):
         """The plan in which two trips have exchanged their next trips."""
@@ -96,7 +93,7 @@ class Plan:
         self.check_name(name)
         moment = self.table[name].leaves
         while True:
-            ready = moment + busy_minutes(self.table, self.pauses, name)
+            ready = moment + self._ready[name] - self.table[name].leaves
             yield (name, moment, ready)
             moment = ready + self._waits[name]
             name = self._follows[name]
@@ -129,9 +126,21 @@ def check_follows(table, follows):
             raise BadPlan(name)
 
 
-def wait_behind(table, pauses, name, follower):
-    """The least number of minutes from the ready moment of a trip to a moment at which the next one leaves."""
-    return (table[follower].leaves - ready_moment(table[name], pauses)) % table.day.length
+def ready_moments(table, pauses):
+    """The dict from each name to the moment at which the trip is ready, if it leaves on day 0."""
+    return {trip.name: ready_moment(trip, pauses) for trip in table}
+
+
+def waits_behind(table, ready, follows):
+    """The dict from each name to the least number of minutes from its ready moment until the next trip leaves."""
+    length = table.day.length
+    return {name: (table[follows[name]].leaves - ready[name]) % length for name in table.names}
+
+
+def waits_meet(length, ready, waits, one, other):
+    """Whether some moment, taken day after day, is in the waits behind both of two trips."""
+    between = ready[other] - ready[one]
+    return between % length <= waits[one] or -between % length <= waits[other]
 
 
 def turns_of(names, follows):
@@ -154,15 +163,10 @@ def ring_from(name, follows):
     return tuple(ring)
 
 
-def busy_minutes(table, pauses, name):
-    """How long a trip takes, with the pause behind it."""
-    return ready_moment(table[name], pauses) - table[name].leaves
-
-
-def days_of(day, turns, minutes):
-    """The dict from each name to the days of its turn; minutes tells those of each trip with all that is behind it."""
+def days_of(table, turns, ready, waits):
+    """The dict from each name to the days of its turn."""
     days = {}
     for turn in turns:
-        together = sum([minutes[name] for name in turn])
-        days.update({name: together // day.length for name in turn})
+        together = sum([ready[name] - table[name].leaves + waits[name] for name in turn])
+        days.update({name: together // table.day.length for name in turn})
     return days

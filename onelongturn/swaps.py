@@ -2,7 +2,7 @@
 
 from onelongturn.errors import BadAsk, Unlike
 from onelongturn.lean import check_lean
-from onelongturn.plans import Plan
+from onelongturn.plans import Plan, ready_moments, turns_of, waits_behind, waits_meet
 
 
 class Merged:
@@ -19,13 +19,8 @@ class Merged:
 def merged(plan):
     """The fewest swaps, each of two trips that meet, to a plan with as many turns as lots."""
     check_lean(plan)
-    swaps = []
-    pair = free_pair(plan)
-    while pair is not None:
-        swaps.append(pair)
-        plan = plan.swapped(pair[0], pair[1])
-        pair = free_pair(plan)
-    return Merged(tuple(swaps), plan)
+    swaps, follows = free_swaps(plan.table, plan.pauses, plan.follows)
+    return Merged(tuple(swaps), Plan(plan.table, plan.pauses, follows))
 
 
 def fewest_swaps(one, other):
@@ -49,14 +44,34 @@ def swaps_to(one, other):
     return tuple(swaps)
 
 
-def free_pair(plan):
+def free_swaps(table, pauses, follows):
+    """The list of the swaps that join all turns that can be joined at no cost, and the next trips behind them."""
+    ready = ready_moments(table, pauses)
+    now = dict(follows)
+    swaps = []
+    pair = free_pair(table, ready, now)
+    while pair is not None:
+        one, other = pair
+        swaps.append(pair)
+        now[one], now[other] = now[other], now[one]
+        pair = free_pair(table, ready, now)
+    return (swaps, now)
+
+
+def free_pair(table, ready, follows):
     """The first two trips that meet and are in unlike turns, None if there are none."""
-    table = plan.table
-    turn_at = {name: at for at, turn in enumerate(plan.turns) for name in turn}
+    turns = turns_of(table.names, follows)
+    if len(turns) < 2:
+        return None
+    turn_at = {name: at for at, turn in enumerate(turns) for name in turn}
+    waits = waits_behind(table, ready, follows)
+    length = table.day.length
     for at, one in enumerate(table.names):
+        goal = table[one].goal
         for other in table.names[at + 1:]:
-            if turn_at[one] != turn_at[other] and table[one].goal == table[other].goal and plan.meet(one, other):
-                return (one, other)
+            if turn_at[one] != turn_at[other] and table[other].goal == goal:
+                if waits_meet(length, ready, waits, one, other):
+                    return (one, other)
     return None
 
 

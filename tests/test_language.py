@@ -12,7 +12,8 @@ TREES = {stem: ast.parse(text) for stem, text in FILES.items()}
 NODES = set("""
 Module Expr Import ImportFrom alias FunctionDef arguments arg ClassDef Assign If While For Return Break Continue Pass
 Raise Name Constant Attribute Call keyword Subscript Slice Tuple List Dict ListComp DictComp comprehension BinOp UnaryOp
-BoolOp Compare IfExp JoinedStr FormattedValue Starred Yield Lambda Add Sub Mult FloorDiv Mod Pow BitOr BitAnd BitXor USub Invert
+BoolOp Compare IfExp JoinedStr FormattedValue Starred Yield Lambda Add Sub Mult FloorDiv Mod Pow LShift BitOr BitAnd BitXor USub
+Invert
 Not And Or Eq NotEq Lt LtE Gt GtE In NotIn Is IsNot Load Store
 """.split())
 BUILTINS = set("""
