@@ -25,6 +25,11 @@ def fewest(table, pauses=None):
     return Fewest(days_between(table, told, cuts), cuts)
 
 
+def fewest_number(table, pauses):
+    """The fewest vehicles, without the cuts."""
+    return fewest(table, pauses).number
+
+
 def stock(table, pauses, place):
     """How many vehicles must be at a place, standing or pausing, just ahead of clock 0."""
     return stands(table, pauses, place)[-1] + pausing(table, pauses, place)[-1]

@@ -49,29 +49,38 @@ def head_of(heads, name):
     return name
 
 
+def goals_of(table):
+    """The dict from each name to the goal of the trip."""
+    return {trip.name: trip.goal for trip in table}
+
+
 def parts_by_places(table):
     """The finest parts of the trips that have no place in common: the lots if all places are taken."""
     return parts_of(table.names, [names_at(table, place) for place in table.places])
 
 
-def least_taken(table, parts):
-    """The fewest places by which all parts are one if they are taken, of several such tuples the least one."""
-    many = 0
-    if len(parts) > 1:
-        bits = {place: 1 << at for at, place in enumerate(table.places)}
-        touched = sorted(set([sum([bits[place] for place in goals_of(table, part)]) for part in parts]))
-        many = 1
-        while True:
-            for taken in chosen_tuples(table.places, many):
-                if are_tied(touched, sum([bits[place] for place in taken])):
-                    return taken
-            many = many + 1
-    return ()
+def least_taken(goals, parts):
+    """The fewest places by which all parts are one if they are taken, of several such tuples the least one.
+
+    goals tells the goal of each name; if all places are taken, the parts are one.
+    """
+    if len(parts) == 1:
+        return ()
+    places = sorted(set(list(goals.values())))
+    bits = {place: 1 << at for at, place in enumerate(places)}
+    # A part touches a place only if a trip of it ends there: in a stretch as many trips are ready as leave.
+    touched = sorted(set([bits_of(bits, [goals[name] for name in part]) for part in parts]))
+    many = 1
+    while True:
+        for taken in chosen_tuples(places, many):
+            if are_tied(touched, bits_of(bits, taken)):
+                return taken
+        many = many + 1
 
 
-def goals_of(table, names):
-    """The ascending list of the places at which trips of these names end."""
-    return sorted(set([table[name].goal for name in names]))
+def bits_of(bits, places):
+    """The bits of some places, of each of them once."""
+    return sum([bits[place] for place in sorted(set(places))])
 
 
 def are_tied(touched, taken):

@@ -209,11 +209,19 @@ def check_amount(day, trips):
 
 def check_balance(places, trips):
     """Raises Unbalanced(place) with the first of the places at which not as many trips end as start."""
+    place = first_unbalanced(places, trips)
+    if place is not None:
+        raise Unbalanced(place)
+
+
+def first_unbalanced(places, trips):
+    """The first of the places at which not as many trips end as start, None if there is none."""
     for place in places:
         starts = [trip.name for trip in trips if trip.start == place]
         ends = [trip.name for trip in trips if trip.goal == place]
         if len(starts) != len(ends):
-            raise Unbalanced(place)
+            return place
+    return None
 
 
 def names_twice(trips):

@@ -3,7 +3,7 @@
 from onelongturn.asked import asked_pauses, check_place, check_table
 from onelongturn.errors import BadAsk
 from onelongturn.lean import picked_follows, queue_events, queues_of
-from onelongturn.meeting import least_taken, names_at, parts_by_places, parts_of, stretch_names, stretch_rows
+from onelongturn.meeting import goals_of, least_taken, names_at, parts_by_places, parts_of, stretch_names, stretch_rows
 from onelongturn.plans import Plan, turns_of
 from onelongturn.swaps import free_swaps
 
@@ -81,14 +81,25 @@ def one_turn(table, pauses=None):
     if len(apart) > 1:
         return Apart(apart)
     queues = queues_of(table, told)
-    parts = parts_of(table.names, [group for queue in queues for group in stretch_names(queue)])
-    taken = least_taken(table, parts)
+    taken = least_taken(goals_of(table), parts_of(table.names, linked_names(queues)))
     _, follows = free_swaps(table, told, picked_follows(queues, lambda waiting, leaving: 0))
     for place, queue in zip(table.places, queues):
         if place in taken:
             follows = joined_follows(table, queue, follows)
     plan = Plan(table, told, follows)
     return OneTurn(plan.vehicles, taken, plan)
+
+
+def linked_names(queues):
+    """The lists of the names that each stretch puts into one lot, by the events of the places."""
+    return [group for queue in queues for group in stretch_names(queue)]
+
+
+def taken_places(table, pauses):
+    """The fewest taken places with which a table with a trip has one lot, None if there are several with all taken."""
+    if len(parts_by_places(table)) > 1:
+        return None
+    return least_taken(goals_of(table), parts_of(table.names, linked_names(queues_of(table, pauses))))
 
 
 def joined_follows(table, queue, follows):

@@ -40,6 +40,8 @@ def fits(word, kind, ahead, below):
         return leaves is not None and leaves < below
     if kind == "takes":
         return read_number(word, 1) is not None
+    if kind == "number":
+        return read_number(word, 0) is not None
     return word == kind
 
 

@@ -11,7 +11,7 @@ FILES = {path.stem: path.read_text(encoding="utf-8") for path in sorted(PACKAGE.
 TREES = {stem: ast.parse(text) for stem, text in FILES.items()}
 NODES = set("""
 Module Expr Import ImportFrom alias FunctionDef arguments arg ClassDef Assign If While For Return Break Continue Pass
-Raise Name Constant Attribute Call keyword Subscript Slice Tuple List Dict ListComp DictComp comprehension BinOp UnaryOp
+Raise With withitem Name Constant Attribute Call keyword Subscript Slice Tuple List Dict ListComp DictComp comprehension BinOp UnaryOp
 BoolOp Compare IfExp JoinedStr FormattedValue Starred Yield Lambda Add Sub Mult FloorDiv Mod Pow LShift BitOr BitAnd BitXor USub
 Invert
 Not And Or Eq NotEq Lt LtE Gt GtE In NotIn Is IsNot Load Store
@@ -27,7 +27,8 @@ splitlines startswith strip update upper values zfill bit_length isascii isdecim
 """.split())
 DUNDERS = set("""
 __init__ __eq__ __str__ __len__ __call__ __iter__ __lt__ __le__ __gt__ __ge__ __add__ __sub__ __mul__ __and__ __or__
-__xor__ __radd__ __rmul__ __rmod__ __rfloordiv__ __neg__ __invert__ __bool__ __contains__ __getitem__
+__xor__ __radd__ __rmul__ __rmod__ __rfloordiv__ __neg__ __invert__ __bool__ __contains__ __getitem__ __setitem__ __iadd__
+__isub__ __enter__ __exit__
 """.split())
 BARRED = re.compile(r"\b(type|typing|enum|Enum|Flag|Generic|Protocol|ABC|namedtuple|abstractmethod)\b|"
                     r"dataclass|overload|contextmanager|_wall|Meta|metaclass=")
@@ -59,7 +60,16 @@ INTERFACE = {
     "stairs": {"Stair": "__init__ __call__ longest_pause __sub__ __le__ __eq__", "Above": "__init__ __eq__",
                "Endless": "__init__ __eq__"},
     "joined": {"Saved": "__init__ __eq__"},
+    "rounds": {"Rounds": "__init__ __eq__ lots_of vehicles_of"},
+    "stays": {"MostStays": "__init__ __eq__"},
+    "board": {"Board": "__init__ __getitem__ __setitem__ put drop __contains__ __len__ __iter__ __iadd__ __isub__ pause"
+                       " told_table told_pauses is_level fewest_now one_now minutes set_minutes twin undo deeds trial"
+                       " tried"},
+    "yard": {"Yard": "__init__ day_on lived __len__ __getitem__ __iter__ waiting done undo trial tried"},
+    "desk": {"Desk": "__init__ ask __call__ run board_now __len__"},
 }
+# What may be imported from elsewhere.
+LIBRARY = {"math": ("gcd", "comb")}
 
 FUNCTIONS = {
     "curves": ("stands(table, pauses, place)", "pausing(table, pauses, place)", "under_way(table)"),
@@ -74,6 +84,18 @@ FUNCTIONS = {
     "stairs": ("stair(table, place)", "above(one, other)", "alike(one, other)", "lateness(table, pauses, stocks)"),
     "shifts": ("shifts(table, pauses, names)", "nearest(table, pauses, names, number)"),
     "joined": ("saved(one, other, pauses=None)", "saved_ever(one, other)"),
+    "rounds": ("rounds(table, pauses=None)", "unrolled(table, k)"),
+    "stays": ("free(table, pauses, place, takes)", "kept(table, pauses, place, takes)",
+              "most_stays(table, pauses, place, takes, spare=0)"),
+    "papers": ("fewest_paper(table, pauses)", "turn_paper(table, pauses)",
+               "stays_paper(table, pauses, place, takes, spare=0)"),
+    "looker": ("shows_fewest(table, pauses, value)", "shows_turn(table, pauses, value)",
+               "shows_stays(table, pauses, place, takes, spare, value)"),
+    "texts": ("write_table(table)", "write_pauses(pauses)", "write_plan(plan)"),
+}
+PARAMETERS = {
+    "__contains__": ["x"], "__getitem__": ["at"], "__setitem__": ["at", "worth"], "__exit__": ["kind", "value", "trace"],
+    **dict.fromkeys(("__str__", "__len__", "__iter__", "__bool__", "__neg__", "__invert__", "__enter__"), []),
 }
 
 
@@ -174,6 +196,9 @@ class TestFiles(unittest.TestCase):
             for node in ast.walk(tree):
                 if isinstance(node, ast.ImportFrom):
                     self.assertIn(node, tree.body)
+                    if node.module in LIBRARY:
+                        self.assertFalse([one for one in node.names if one.asname or one.name not in LIBRARY[node.module]])
+                        continue
                     self.assertTrue(node.level == 0 and node.module.startswith("onelongturn."), (stem, node.lineno))
                     other = node.module.removeprefix("onelongturn.")
                     needs[stem].append(other)
@@ -204,8 +229,10 @@ class TestNames(unittest.TestCase):
             known = set(top_names(tree)) | BUILTINS
             for function in [*functions_of(tree), *lambdas_of(tree)]:
                 known |= set(local_names(function))
+            setters = {id(one.value) for node in functions_of(tree) for one in node.decorator_list
+                       if isinstance(one, ast.Attribute)}
             for node in ast.walk(tree):
-                if isinstance(node, ast.Name) and isinstance(node.ctx, ast.Load):
+                if isinstance(node, ast.Name) and isinstance(node.ctx, ast.Load) and id(node) not in setters:
                     self.assertIn(node.id, known, (stem, node.lineno))
                     self.assertNotEqual(node.id, "_", (stem, node.lineno))
 
@@ -246,9 +273,7 @@ class TestNames(unittest.TestCase):
             if isinstance(node, ast.FunctionDef) and node.name.startswith("__") and node.name not in (
                     "__init__", "__call__"):
                 told = [one.arg for one in node.args.args]
-                other = {"__contains__": ["x"], "__getitem__": ["at"]}.get(node.name, ["other"])
-                alone = ("__str__", "__len__", "__iter__", "__bool__", "__neg__", "__invert__")
-                self.assertEqual(told, ["self"] if node.name in alone else ["self", *other])
+                self.assertEqual(told, ["self", *PARAMETERS.get(node.name, ["other"])])
 
     def test_families_have_no_reflected_methods(self):
         for _, node in walked():
@@ -300,8 +325,8 @@ class TestExpressions(unittest.TestCase):
     def test_decorators(self):
         for stem, node in walked():
             if isinstance(node, (ast.FunctionDef, ast.ClassDef)):
-                self.assertFalse([one for one in node.decorator_list
-                                  if not (isinstance(one, ast.Name) and one.id in ("staticmethod", "property"))])
+                for one in node.decorator_list:
+                    self.assertIn(ast.unparse(one), ("staticmethod", "property", f"{node.name}.setter"))
 
     def test_exponents_are_literal(self):
         for stem, node in walked():
