@@ -5,18 +5,23 @@ import unittest
 from itertools import permutations, product
 
 from onelongturn import errors
+from onelongturn.board import Board
 from onelongturn.clocks import Clocks
 from onelongturn.curves import Curve
 from onelongturn.days import Day
+from onelongturn.desk import Desk
 from onelongturn.fewest import Fewest
 from onelongturn.joined import Saved
 from onelongturn.plans import Plan
+from onelongturn.rounds import Rounds
 from onelongturn.rules import FirstIn, LastIn, Named
 from onelongturn.stairs import Above, Endless, Stair
+from onelongturn.stays import MostStays
 from onelongturn.swaps import Merged
 from onelongturn.tables import Pauses, Table
 from onelongturn.trips import Run, Stay
 from onelongturn.turns import Apart, OneTurn
+from onelongturn.yard import Yard
 
 FIELDS = {
     "BadDay": ("value",), "BadName": ("value",), "BadNumber": ("value",), "BadClocks": ("at",),
@@ -32,7 +37,8 @@ PACKAGE_OBJECTS = [
     errors.BadDay(3), errors.TurnError(), Table(Day(3)), Table(Day(24), Stay("w", "a", 6, 2)), Pauses(), Pauses(a=2),
     Curve(Day(24), [(0, 1)]), Plan(Table(Day(3)), None, {}), Fewest(1, {}), FirstIn(), LastIn(), Named("a"),
     Merged((), None), Stair(24, 1, (2, 20), 2), Above(0, Pauses()), Endless("a"), Saved(0, {}), OneTurn(1, (), None),
-    Apart(()),
+    Apart(()), Rounds(3, 0, (3,)), MostStays(1, (17,), 1, (6, 16)), Board(Table(Day(3))),
+    Board(Table(Day(24), Stay("w", "a", 6, 2))), Yard(Table(Day(3)), None, FirstIn(), {}), Desk(),
 ]
 PLAIN_VALUES = [
     None, True, False, 0, 1, -1, 7, 10 ** 12 + 1, 10 ** 69, -(10 ** 69), "", "a", "abcdefgh", "abcdefghi", "A",

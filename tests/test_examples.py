@@ -61,19 +61,6 @@ PLANS = """
 >>> Plan(table, None, {"p": "q", "q": "s", "r": "p", "s": "r"})
 raises BadPlan('q')
 """
-READER = """
->>> from onelongturn.reader import read_pauses, read_plan, read_table
->>> read_table("day 24\\nrun p a 24 2 b")
-raises BadText(1, 3)
->>> read_table("day 24\\nrun p a 6 2 b")
-raises Unbalanced('a')
->>> read_pauses("pauses a 0")
-raises BadText(0, 2)
->>> read_table('day 24\\nrun p a 6 2 b\\nrun q b 9 2 a\\nrun r a 12 2 b\\nrun s b 15 2 a') == table
-True
->>> read_pauses('pauses a 2 b 3') == Pauses(b=3, a=2)
-True
-"""
 FEWEST = """
 >>> from onelongturn.fewest import Fewest, days_by, fewest, room, stock, under
 >>> [fewest(table) == Fewest(1, {"a": 7, "b": 0}), fewest(table, Pauses(a=2)).number, fewest(table, Pauses(a=2)).cuts, stock(table, Pauses(a=2), "a"), under(table), room(table, Pauses(a=2), "a")]
@@ -126,7 +113,91 @@ SHIFTS = """
 >>> [shifts(table, None, ["p", "q", "r", "s"]).steps, shifts(table, None, ["q"])[2], shifts(table, None, ["q"])[4], nearest(table, None, ["q"], 1), nearest(table, Pauses(a=2), ["r"], 1)]
 [((0, 1),), 2, 2, 0, 1]
 """
-IN_ORDER = (DAYS, CLOCKS, TRIPS, TABLES, CURVES, FEWEST, PLANS, RULES, COUNTS, SWAPS, TURNS, STAIRS, SHIFTS, READER)
+ROUNDS = """
+>>> from onelongturn.rounds import Rounds, rounds, unrolled
+>>> turning = rounds(loops, Pauses(a=12))
+>>> [turning == Rounds(3, 0, (3,)), turning.lots_of(3), turning.lots_of(10 ** 20), turning.vehicles_of(2), turning.vehicles_of(6), rounds(loops).vehicles_of(7), rounds(table).periods]
+[True, 3, 1, 3, 4, 3, (1,)]
+>>> [unrolled(loops, 2).names, str(unrolled(loops, 2)["vb"]), fewest(unrolled(loops, 2)).number]
+[('ua', 'ub', 'va', 'vb'), 'run vb a 42 24 a', 2]
+"""
+STAYS = """
+>>> from onelongturn.stays import MostStays, free, kept, most_stays
+>>> [free(table, None, "a", 13).pieces, free(table, None, "a", 14).pieces, free(table, Pauses(a=2), "a", 6).pieces, kept(table, Pauses(a=2), "a", 6).pieces]
+[((17, 17),), (), ((13, 6),), ((13, 6),)]
+>>> [most_stays(table, None, "a", 3).number, most_stays(table, None, "a", 13).starts, most_stays(table, None, "a", 14).number, most_stays(loops, None, "a", 7, 1).number]
+[4, (17,), 0, 3]
+"""
+BOARD = """
+>>> from onelongturn.board import Board
+>>> board = Board(table)
+>>> board["r"] = Run("r", "a", 13, 2, "b")
+>>> [board.fewest_now(), board.one_now(), board.pause("a", 2), board.fewest_now(), board.undo(), board.undo(), board.told_table() == table, board.deeds]
+[1, 1, None, 1, True, True, True, 0]
+>>> [board.drop("p"), board.is_level, board.fewest_now(), board.tried(lambda same: (same.drop("q"), same.fewest_now())), len(board)]
+[None, False, None, (None, 1), 3]
+>>> with board.trial() as same:
+...     word = [same is board, same.drop("q"), len(same), same.deeds]
+>>> [word, len(board), board.deeds]
+[[True, None, 2, 2], 3, 1]
+>>> board.told_table()
+raises Unbalanced('a')
+>>> board.minutes = 30
+>>> [board.minutes, board.deeds, board.undo(), board.minutes]
+[30, 2, True, 24]
+>>> board.set_minutes(15)
+raises OutOfDay('s')
+"""
+YARD = """
+>>> from onelongturn.yard import Yard
+>>> yard = Yard(table, Pauses(a=2), FirstIn(), {"a": 2, "b": 0})
+>>> [len(yard), yard.day_on(), yard[0], yard.waiting("a"), yard.day_on({"q": 1}), yard.done("p"), yard.lived]
+[2, None, (('p', 6, 8), ('q', 9, 13)), (0, 1), None, (0, 0), 2]
+>>> yard.day_on({"p": 2})
+raises Lacking('q')
+>>> with yard.trial() as same:
+...     word = [same.day_on(), same.lived]
+>>> [word, yard.lived]
+[[None, 3], 2]
+"""
+PAPERS = """
+>>> from onelongturn.looker import shows_fewest, shows_stays, shows_turn
+>>> from onelongturn.papers import fewest_paper, stays_paper, turn_paper
+>>> fewest_paper(table, None)
+('fewest', 1, (('a', 7), ('b', 0)), (('p', 'q'), ('q', 'r'), ('r', 's'), ('s', 'p')))
+>>> [turn_paper(loops, None), shows_turn(loops, None, turn_paper(loops, None)), shows_turn(loops, None, ("one", 3, ("u", "v"), (("a", 0),), ()))]
+[('one', 3, ('u', 'v'), (('a', 0),), (((), ('u',)),)), True, False]
+>>> [shows_fewest(table, None, fewest_paper(table, Pauses(a=2))), shows_stays(table, None, "a", 14, 0, ("stays", 0, (), 1, (6, 16))), turn_paper(loops + Table(day, Run("x", "c", 1, 2, "c")), None)]
+[False, True, ('apart', ('u', 'v'))]
+"""
+TEXTS = """
+>>> from onelongturn.reader import read_pauses, read_plan, read_table
+>>> from onelongturn.texts import write_pauses, write_plan, write_table
+>>> write_table(table)
+'day 24\\nrun p a 6 2 b\\nrun q b 9 2 a\\nrun r a 12 2 b\\nrun s b 15 2 a'
+>>> [read_table(write_table(table)) == table, write_pauses(Pauses(b=3, a=2)), read_plan(write_plan(long)) == long]
+[True, 'pauses a 2 b 3', True]
+>>> read_table("day 24\\nrun p a 24 2 b")
+raises BadText(1, 3)
+>>> read_table("day 24\\nrun p a 6 2 b")
+raises Unbalanced('a')
+>>> read_pauses("pauses a 0")
+raises BadText(0, 2)
+"""
+DESK = """
+>>> from onelongturn.desk import Desk
+>>> desk = Desk()
+>>> desk.run("day 24", "run p a 6 2 b", "run q b 9 2 a", "fewest", "one", "turn", "stands a", "pause a 20", "fewest", "shift 3 q", "rounds 2", "undo", "plans")
+['ok', '1', '2', '1', '1', 'p q', '11-5', 'ok', '2', '2', '3', 'ok', '1']
+>>> desk.run("stock a", "room b", "free a 19", "drop q", "fewest")
+raises Unbalanced('a')
+>>> [desk("show"), len(desk)]
+['run p a 6 2 b, run q b 9 2 a', 3]
+>>> desk.ask("pause a")
+raises BadLine(2)
+"""
+IN_ORDER = (DAYS, CLOCKS, TRIPS, TABLES, CURVES, FEWEST, PLANS, RULES, COUNTS, SWAPS, TURNS, STAIRS, SHIFTS, ROUNDS, STAYS,
+            BOARD, YARD, PAPERS, TEXTS, DESK)
 
 
 class TestExamples(Checks):
