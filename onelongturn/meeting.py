@@ -27,9 +27,9 @@ def names_at(table, place):
 def parts_of(names, groups):
     """The finest parts of ascending names such that those of each group are in one part; tuples, ascending."""
     heads = {name: name for name in names}
-    for group in groups:
+    for group in list(groups):
         head = head_of(heads, group[0])
-        for name in group:
+        for name in list(group):
             other = head_of(heads, name)
             if other < head:
                 heads[head] = other

@@ -7,6 +7,8 @@ The least of these bounds is found as a cheapest ring in which each minute keeps
 source: as long as some minute has a cheaper source, that one is taken, by whole numbers alone.
 """
 
+from math import gcd
+
 # More than any minute can cost: those that the ring does not lead to are that far.
 FAR = 10 ** 30
 
@@ -18,15 +20,42 @@ def cheapest_ring(heights, takes):
     """
     length = len(heights)
     costs = [heights[(minute + takes) % length] for minute in range(length)]
-    sources = [(minute - takes) % length for minute in range(length)]
+    sources = first_sources(costs, takes)
     best = least_ring(sources, costs)
     reached = reached_from(best, sources, costs)
     while take_cheaper(reached, sources, costs, takes, best):
+        take_longest(reached, sources, costs, takes, best)
         found = least_ring(sources, costs)
         if found[0] * best[1] < best[0] * found[1]:
             best = found
         reached = reached_from(best, sources, costs)
     return (best[0], best[1], tuple([(minute + takes) % length for minute in reversed(list(best[2]))]), reached)
+
+
+def first_sources(costs, takes):
+    """For each minute the source that costs least by itself, of equal ones the farthest."""
+    length = len(costs)
+    sources = []
+    row = []
+    head = 0
+    for source in range(-takes, length - 1):
+        put_behind(row, head, (costs[source % length], source))
+        minute = source + 1
+        if minute >= 0:
+            if row[head][1] < minute - takes:
+                head = head + 1
+            sources.append(row[head][1] % length)
+    return sources
+
+
+def put_behind(row, head, pair):
+    """Puts a pair of a cost and a source into a row in which the costs rise from the index head on.
+
+    Those that cost more and are nearer to what is ahead go out, so that the first one is the cheapest.
+    """
+    while len(row) > head and row[-1][0] > pair[0]:
+        row.pop()
+    row.append(pair)
 
 
 def least_ring(sources, costs):
@@ -85,8 +114,7 @@ def reached_from(best, sources, costs):
 def take_cheaper(reached, sources, costs, takes, best):
     """Goes round the day from the best ring's first minute on and takes cheaper sources; whether there were any.
 
-    The costs and the sources are changed. The sources that a minute can have are kept in a row in which the costs
-    rise, so that the first one is the cheapest, of equal ones the farthest.
+    The costs that are reached and the sources are changed.
     """
     total, times, ring = best
     length = len(sources)
@@ -96,10 +124,7 @@ def take_cheaper(reached, sources, costs, takes, best):
     changed = False
     for source in range(root + 1 - takes, root + length):
         at = source % length
-        cost = reached[at] + costs[at] * times + total * (source // length)
-        while len(row) > head and row[-1][0] > cost:
-            row.pop()
-        row.append((cost, source))
+        put_behind(row, head, (reached[at] + costs[at] * times + total * (source // length), source))
         minute = source + 1
         if minute > root:
             if row[head][1] < minute - takes:
@@ -110,3 +135,23 @@ def take_cheaper(reached, sources, costs, takes, best):
                 sources[minute % length] = row[head][1] % length
                 changed = True
     return changed
+
+
+def take_longest(reached, sources, costs, takes, best):
+    """Takes the farthest sources where they are cheaper, as often as these steps go round before they meet again.
+
+    In a cheapest ring all steps are the longest ones but those to the ends of times in which the curve is level; so
+    few rounds of all steps are enough, where without this there would be one for each round of the ring.
+    """
+    total, times, ring = best
+    length = len(sources)
+    apart = gcd(length, takes)
+    for begin in range(apart):
+        minute = begin
+        for _ in range(2 * length // apart):
+            source = minute
+            minute = (source + takes) % length
+            cost = reached[source] + costs[source] * times - (total if source >= minute else 0)
+            if cost < reached[minute]:
+                reached[minute] = cost
+                sources[minute] = source

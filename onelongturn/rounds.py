@@ -66,11 +66,12 @@ def unrolled(table, k):
             raise BadName(name)
     length = table.day.length
     day = Day(length * k)
-    trips = []
-    for at in range(k):
-        for trip in table:
-            trips.append(retold(trip, trip.name + DAY_LETTERS[at], trip.leaves + at * length, trip.takes))
-    return Table.of(day, trips)
+    return Table.of(day, [on_day(trip, at, length) for at in range(k) for trip in table])
+
+
+def on_day(trip, at, length):
+    """The trip of a round that is run on the day of this index."""
+    return retold(trip, trip.name + DAY_LETTERS[at], trip.leaves + at * length, trip.takes)
 
 
 def check_days(k):

@@ -110,9 +110,9 @@ def joined_follows(table, queue, follows):
     """
     turn_at = {name: at for at, turn in enumerate(turns_of(table.names, follows)) for name in turn}
     firsts = {}
-    for clock, ready, leaving, stand in queue:
-        for name in ready:
-            firsts.setdefault(turn_at[name], name)
+    for name in [name for event in queue for name in event[1]]:
+        if turn_at[name] not in firsts:
+            firsts[turn_at[name]] = name
     ring = list(firsts.values())
     joined = dict(follows)
     for at, name in enumerate(ring):

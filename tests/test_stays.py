@@ -242,6 +242,17 @@ class TestMostStays(Checks):
             takes = dice.choice((dice.randint(60, length), dice.randint(600, 1100), length - 1, length, 100, 81))
             self.check_most(table, pauses, table.places[0], takes, spare)
 
+    def test_stays_of_nearly_a_day_and_of_nearly_a_part_of_it(self):
+        dice = random.Random(175)
+        for at in range(40):
+            length = (1997, 1999, 2000)[at % 3]
+            clocks = sorted(dice.sample(range(length), dice.choice((2, 4, 6))))
+            table = gap_table(length, [(one, other - one) for one, other in zip(clocks[::2], clocks[1::2])])
+            spare = dice.choice((1, 5, 39, 40))
+            for parts in (1, 2, 3):
+                self.check_most(table, None, "a", length // parts - dice.choice((-1, 0, 1, 3, 19)) * (parts > 1), spare)
+            self.check_most(table, None, "a", length - dice.choice((1, 3, 19, 37)), spare)
+
     def test_two_thousand_stays_and_more(self):
         table = gap_table(2000, [(5, 1)])
         self.same(len(self.check_most(table.without("ta").with_trips(Stay("w", "a", 0, 2000)), None, "a", 1, 1).starts), 2000)
