@@ -106,13 +106,12 @@ def step_of(trip, pauses, first_at, length):
 
 def period_of(steps):
     """The greatest common divisor of the sums of days over all closed walks of steps that hang together."""
+    # As many steps lead to a stretch as from it, so that forward ones alone reach all stretches.
     reached = {steps[0][0]: 0}
     for _ in steps:
         for begin, end, days in steps:
             if begin in reached and end not in reached:
                 reached[end] = reached[begin] + days
-            if end in reached and begin not in reached:
-                reached[begin] = reached[end] - days
     period = 0
     for begin, end, days in steps:
         period = gcd(period, reached[begin] + days - reached[end])

@@ -225,6 +225,17 @@ class TestFewest(Checks):
                 seen[wanted] += 1
         self.assertTrue(seen[True] > 50 and seen[False] > 1000)
 
+    def test_next_trips_of_no_plan_with_as_many_days(self):
+        table = Table(DAY, Run("x", "a", 6, 2, "b"), Run("y", "b", 9, 2, "a"), Run("u", "c", 7, 1, "c"))
+        told = fewest_paper(table, None)
+        self.same([told[1], told[3]], [2, (("u", "u"), ("x", "y"), ("y", "x"))])
+        for follows in ((("u", "x"), ("x", "y"), ("y", "u")), (("u", "y"), ("x", "u"), ("y", "x"))):
+            self.same(shows_fewest(table, None, told[:3] + (follows,)), False)
+        told = fewest_paper(LOOPS, None)
+        for follows in ((("u", "u"), ("v", "u")), (("u", "v"), ("v", "v")), (("u", "v"), ("v", "x"))):
+            for number in (1, 2, 3):
+                self.same(shows_fewest(LOOPS, None, ("fewest", number, told[2], follows)), False)
+
     def test_strange_values(self):
         for table in (TABLE, LOOPS, Table(DAY)):
             for value in STRANGE:
@@ -312,6 +323,25 @@ class TestTurn(Checks):
             self.same(shows_turn(table, None, told[:4] + (told[4][:at] + told[4][at + 1:],)), False)
             self.same(shows_turn(table, None, told[:4] + (told[4] + told[4][at:at + 1],)), False)
             self.same(shows_turn(table, None, told[:4] + (told[4][:at] + told[4][at + 1:] + told[4][:1],)), at == 0)
+
+    def test_rows_that_are_no_turn(self):
+        for row in (("u", "u"), ("v", "v"), ("u", "v", "u"), ("u",), (), ("u", "v", "u", "v"), ["u", "v"], ("u", "x"), ("v", None)):
+            for number in (2, 3):
+                for partings in ((), (((), ("u",)),)):
+                    self.same(shows_turn(LOOPS, None, ("one", number, row, (("a", 0),), partings)), False)
+        table = Table(DAY, Run("x", "a", 6, 2, "b"), Run("y", "b", 9, 2, "a"), Run("u", "a", 7, 1, "a"))
+        told = turn_paper(table, None)
+        for row in permutations("uxy"):
+            self.same(shows_turn(table, None, told[:2] + (row,) + told[3:]), "".join(row) in ("uxy", "xyu", "yux"))
+
+    def test_taken_places_part_nothing(self):
+        table = loop_row(24, "abcd")
+        told = turn_paper(table, None)
+        pairs = {"b": (("oa", "ra"), ("oa", "ob", "ra", "rb")), "c": (("oa", "ra"), ("oa", "ob", "ra", "rb"))}
+        for at, (taken, _) in enumerate(told[4]):
+            for names in pairs.get(taken[0], ()):
+                value = told[:4] + (told[4][:at] + ((taken, names),) + told[4][at + 1:],)
+                self.same(shows_turn(table, None, value), (taken[0] == "b") != (names == ("oa", "ra")))
 
     def test_apart(self):
         for names, wanted in ((("u", "v"), True), (("x",), True), (("u",), False), (("v", "x"), False), ((), False),
