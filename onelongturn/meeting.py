@@ -30,12 +30,7 @@ def parts_of(names, groups):
     for group in list(groups):
         head = head_of(heads, group[0])
         for name in list(group):
-            other = head_of(heads, name)
-            if other < head:
-                heads[head] = other
-                head = other
-            else:
-                heads[other] = head
+            heads[head_of(heads, name)] = head
     parts = {}
     for name in list(names):
         parts.setdefault(head_of(heads, name), []).append(name)
@@ -43,7 +38,7 @@ def parts_of(names, groups):
 
 
 def head_of(heads, name):
-    """The least name of the part of a name, by a dict that leads from each name to a lesser one of its part."""
+    """The name that stands for the part of a name, by a dict that leads from each name to another one of its part."""
     while heads[name] != name:
         name = heads[name]
     return name

@@ -110,7 +110,7 @@ def joined_follows(table, queue, follows):
     """
     turn_at = {name: at for at, turn in enumerate(turns_of(table.names, follows)) for name in turn}
     firsts = {}
-    for name in [name for event in queue for name in event[1]]:
+    for name in [one for event in queue for one in event[1]]:
         if turn_at[name] not in firsts:
             firsts[turn_at[name]] = name
     ring = list(firsts.values())
