@@ -1,6 +1,12 @@
 """The examples of the document, word for word."""
 
+import re
+import unittest
+from pathlib import Path
+
 from tests.support import Checks
+
+DOC = Path(__file__).resolve().parent.parent.parent / "shared" / "DOC.md"
 
 DAYS = """
 >>> from onelongturn.days import Day
@@ -205,6 +211,11 @@ class TestExamples(Checks):
         names = {}
         for text in IN_ORDER:
             self.run_examples(text, names)
+
+    @unittest.skipUnless(DOC.exists(), "the document is not here")
+    def test_these_are_all_examples_word_for_word(self):
+        blocks = re.findall(r"```\n(>>> .*?)```", DOC.read_text(encoding="utf-8"), re.DOTALL)
+        self.assertEqual(sorted(blocks), sorted(text.lstrip("\n") for text in IN_ORDER))
 
     def test_the_note_on_touching_pieces(self):
         names = {}
