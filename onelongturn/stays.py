@@ -29,8 +29,9 @@ class MostStays:
     def __eq__(self, other):
         if not isinstance(other, MostStays):
             return False
-        equal = self.number == other.number and self.starts == other.starts
-        return equal and self.rounds == other.rounds and self.row == other.row
+        if self.number != other.number or self.starts != other.starts:
+            return False
+        return self.rounds == other.rounds and self.row == other.row
 
 
 def free(table, pauses, place, takes):

@@ -275,6 +275,12 @@ class TestNames(unittest.TestCase):
                 told = [one.arg for one in node.args.args]
                 self.assertEqual(told, ["self", *PARAMETERS.get(node.name, ["other"])])
 
+    def test_what_compares_measures_and_tells_assigns_nothing(self):
+        for stem, node in walked():
+            if isinstance(node, ast.FunctionDef) and node.name in ("__eq__", "__str__", "__len__", "__bool__", "__iter__"):
+                self.assertFalse([part for part in ast.walk(node) if isinstance(part, ast.Assign)], (stem, node.lineno))
+                self.assertIsInstance(node.body[-1], ast.Return)
+
     def test_families_have_no_reflected_methods(self):
         for _, node in walked():
             if isinstance(node, ast.ClassDef) and node.bases:
